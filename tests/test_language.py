@@ -1,0 +1,137 @@
+"""Those rules of the program's language that can be seen in its files one by one."""
+
+import ast
+import pathlib
+import unittest
+
+PACKAGE = pathlib.Path(__file__).resolve().parent.parent / "elderdraw"
+LIBRARY = {
+    "math": {"gcd", "lcm", "isqrt", "comb", "perm", "factorial"},
+    "heapq": {"heappush", "heappop", "heapify", "heapreplace", "heappushpop"},
+    "itertools": {"product", "combinations", "permutations", "chain", "accumulate", "pairwise", "islice", "zip_longest"},
+    "collections": {"defaultdict"},
+}
+BUILTINS = """len range enumerate zip min max sum abs sorted reversed int str bool bytes list tuple dict set frozenset isinstance
+    ord repr any all divmod map iter next super ValueError KeyError IndexError LookupError TypeError""".split()
+SPECIAL = {"__init__", "__eq__", "__repr__", "__str__", "__len__"}
+# A class with == stands in the package: any, all, sum and the like take lists, and nothing is sorted in place.
+UNWANTED = (ast.Global, ast.AsyncFunctionDef, ast.Await, ast.Div, ast.GeneratorExp, ast.Import)
+
+
+def files():
+    return sorted(PACKAGE.rglob("*.py"))
+
+
+def nodes(kind):
+    for path in files():
+        for node in ast.walk(ast.parse(path.read_text())):
+            if isinstance(node, kind):
+                yield path.name, node
+
+
+def is_plain_is(node):
+    return isinstance(node, ast.Compare) and all(
+        isinstance(side, ast.Constant) for sign, side in zip(node.ops, node.comparators) if isinstance(sign, (ast.Is, ast.IsNot)))
+
+
+class Language(unittest.TestCase):
+    def test_the_folder_has_plain_files_alone(self):
+        for path in PACKAGE.rglob("*"):
+            if "__pycache__" not in path.parts:
+                self.assertEqual(path.suffix, ".py", path)
+                self.assertTrue(path.stem.replace("_", "").isalnum() and path.name == path.name.lower(), path)
+        self.assertTrue((PACKAGE / "__init__.py").exists())
+
+    def test_sizes_and_characters(self):
+        for path in files():
+            rows = path.read_text().split("\n")
+            self.assertLessEqual(len(rows), 399, path)
+            for row in rows:
+                self.assertLessEqual(len(row), 120, path)
+                self.assertTrue(all(" " <= sign <= "~" for sign in row), (path, row))
+
+    def test_functions_have_at_most_forty_lines(self):
+        for name, node in nodes(ast.FunctionDef):
+            self.assertLessEqual(node.end_lineno - node.lineno + 1, 40, (name, node.name))
+
+    def test_imports(self):
+        for name, node in nodes(ast.ImportFrom):
+            if node.module in LIBRARY:
+                self.assertLessEqual({alias.name for alias in node.names}, LIBRARY[node.module], name)
+                self.assertEqual({alias.asname for alias in node.names}, {None}, name)
+            else:
+                self.assertEqual((node.level, node.module.split(".")[0], node.module.count(".")), (0, "elderdraw", 1), name)
+                wanted = ast.parse((PACKAGE / (node.module.split(".")[1] + ".py")).read_text())
+                bound = {one.name for one in wanted.body if isinstance(one, (ast.FunctionDef, ast.ClassDef))}
+                self.assertLessEqual({alias.name for alias in node.names}, bound, name)
+
+    def test_nothing_unwanted_stands_there(self):
+        for name, node in nodes(UNWANTED):
+            self.fail((name, ast.dump(node)))
+        for name, node in nodes(ast.Compare):
+            self.assertTrue(is_plain_is(node), (name, node.lineno))
+        for name, node in nodes(ast.Constant):
+            self.assertNotIsInstance(node.value, (float, complex), name)
+        for name, node in nodes(ast.Attribute):
+            self.assertNotEqual(node.attr, "sort", name)
+
+    def test_methods_with_double_underscores(self):
+        for name, node in nodes(ast.FunctionDef):
+            self.assertEqual(node.decorator_list, [], name)
+            if node.name.startswith("__"):
+                self.assertIn(node.name, SPECIAL, name)
+
+    def test_exponents_are_literals_up_to_64(self):
+        for name, node in nodes(ast.BinOp):
+            if isinstance(node.op, ast.Pow):
+                self.assertTrue(isinstance(node.right, ast.Constant) and 0 <= node.right.value <= 64, (name, node.lineno))
+
+    def test_what_is_called_by_name_is_own_or_an_allowed_builtin(self):
+        for path in files():
+            tree = ast.parse(path.read_text())
+            known = set(BUILTINS)
+            for node in ast.walk(tree):
+                if isinstance(node, (ast.FunctionDef, ast.ClassDef)):
+                    known.add(node.name)
+                if isinstance(node, ast.ImportFrom):
+                    known |= {alias.name for alias in node.names}
+            for node in ast.walk(tree):
+                if isinstance(node, ast.Call) and isinstance(node.func, ast.Name):
+                    self.assertIn(node.func.id, known, path)
+
+    def test_no_parameter_or_variable_hides_an_import_a_class_or_a_builtin(self):
+        for path in files():
+            tree = ast.parse(path.read_text())
+            barred = {*BUILTINS, "id", "input", "open", "type", "vars", "dir", "hash", "filter", "format", "round"}
+            for node in ast.walk(tree):
+                if isinstance(node, ast.ClassDef):
+                    barred.add(node.name)
+                if isinstance(node, ast.ImportFrom):
+                    barred |= {alias.name for alias in node.names}
+            for node in ast.walk(tree):
+                if isinstance(node, ast.arg):
+                    self.assertNotIn(node.arg, barred, path)
+                if isinstance(node, ast.Name) and isinstance(node.ctx, ast.Store):
+                    self.assertNotIn(node.id, barred, path)
+
+
+class Interface(unittest.TestCase):
+    LISTED = {
+        "shares": ["Share", "plus", "minus", "times", "over", "less", "sum_of"],
+        "walks": ["Walk", "closed_sets", "resting", "is_resting"],
+    }
+    METHODS = {"Share": ["__init__", "__eq__", "__str__"], "Walk": ["__init__", "share", "__len__"]}
+
+    def test_what_is_listed_stands_in_its_file_and_its_class(self):
+        for stem, names in self.LISTED.items():
+            tree = ast.parse((PACKAGE / (stem + ".py")).read_text())
+            found = {node.name: node for node in tree.body if isinstance(node, (ast.FunctionDef, ast.ClassDef))}
+            for name in names:
+                self.assertIn(name, found)
+                methods = [node.name for node in ast.walk(found[name]) if isinstance(node, ast.FunctionDef)]
+                for method in self.METHODS.get(name, []):
+                    self.assertIn(method, methods)
+
+
+if __name__ == "__main__":
+    unittest.main()
