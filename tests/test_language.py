@@ -65,6 +65,23 @@ class Language(unittest.TestCase):
                 bound = {one.name for one in wanted.body if isinstance(one, (ast.FunctionDef, ast.ClassDef))}
                 self.assertLessEqual({alias.name for alias in node.names}, bound, name)
 
+    def test_no_two_files_import_from_each_other(self):
+        wants = {path.stem: set() for path in files()}
+        for name, node in nodes(ast.ImportFrom):
+            if node.module.startswith("elderdraw."):
+                wants[name.removesuffix(".py")].add(node.module.split(".")[1])
+        while wants:
+            free = [stem for stem, wanted in wants.items() if not wanted & set(wants)]
+            self.assertTrue(free, wants)
+            for stem in free:
+                del wants[stem]
+
+    def test_no_class_has_a_method_and_an_attribute_of_one_name(self):
+        for name, node in nodes(ast.ClassDef):
+            methods = {one.name for one in node.body if isinstance(one, ast.FunctionDef)}
+            attributes = {one.attr for one in ast.walk(node) if isinstance(one, ast.Attribute) and isinstance(one.ctx, ast.Store)}
+            self.assertEqual(methods & attributes, set(), (name, node.name))
+
     def test_nothing_unwanted_stands_there(self):
         for name, node in nodes(UNWANTED):
             self.fail((name, ast.dump(node)))
@@ -86,7 +103,7 @@ class Language(unittest.TestCase):
             if isinstance(node.op, ast.Pow):
                 self.assertTrue(isinstance(node.right, ast.Constant) and 0 <= node.right.value <= 64, (name, node.lineno))
 
-    def test_what_is_called_by_name_is_own_or_an_allowed_builtin(self):
+    def test_what_is_called_by_name_is_own_or_handed_in_or_an_allowed_builtin(self):
         for path in files():
             tree = ast.parse(path.read_text())
             known = set(BUILTINS)
@@ -95,6 +112,8 @@ class Language(unittest.TestCase):
                     known.add(node.name)
                 if isinstance(node, ast.ImportFrom):
                     known |= {alias.name for alias in node.names}
+                if isinstance(node, ast.arg):
+                    known.add(node.arg)
             for node in ast.walk(tree):
                 if isinstance(node, ast.Call) and isinstance(node.func, ast.Name):
                     self.assertIn(node.func.id, known, path)
@@ -119,8 +138,18 @@ class Interface(unittest.TestCase):
     LISTED = {
         "shares": ["Share", "plus", "minus", "times", "over", "less", "sum_of"],
         "walks": ["Walk", "closed_sets", "resting", "is_resting"],
+        "turns": ["Turns", "walk_of", "go_as", "plain_turns"],
+        "words": ["map_of", "maps_of", "never_meet", "meeting"],
+        "elder": ["Draw", "drawn", "drawn_doubled"],
+        "orders": ["Order", "not_kept", "drawn_between"],
     }
-    METHODS = {"Share": ["__init__", "__eq__", "__str__"], "Walk": ["__init__", "share", "__len__"]}
+    METHODS = {
+        "Share": ["__init__", "__eq__", "__str__"],
+        "Walk": ["__init__", "share", "__len__"],
+        "Turns": ["__init__", "__eq__", "__len__"],
+        "Draw": ["__init__", "elder", "place", "used", "looked", "__len__"],
+        "Order": ["__init__", "at_most", "least", "greatest", "__len__"],
+    }
 
     def test_what_is_listed_stands_in_its_file_and_its_class(self):
         for stem, names in self.LISTED.items():
