@@ -1,5 +1,6 @@
 """Walks from place to place, the sets that they never leave, and how they rest."""
 
+from elderdraw.equations import solved
 from elderdraw.errors import NotOne, NoWalk
 from elderdraw.kinds import is_whole, is_whole_within
 from elderdraw.shares import Share, on_one_bottom
@@ -85,14 +86,8 @@ def _weights(walk, places):
     others = places[:-1]
     last = places[-1]
     grid = [_balance(walk, others, last, y) for y in others]
-    # Whole numbers alone: each division below leaves no rest, and each pivot is the
-    # determinant of a part of the walk that can be left, which is above 0.
-    divisor = 1
-    for k in range(len(others)):
-        pivot = grid[k][k]
-        grid = _cleared(grid, k, divisor)
-        divisor = pivot
-    return [row[-1] for row in grid] + [divisor]
+    rights, divisor = solved(grid)
+    return [right[0] for right in rights] + [divisor]
 
 
 def _balance(walk, others, last, y):
@@ -100,18 +95,6 @@ def _balance(walk, others, last, y):
     row = [-walk.rows[x][y] for x in others]
     row[others.index(y)] += walk.whole
     return row + [walk.rows[last][y]]
-
-
-def _cleared(grid, k, divisor):
-    """Tell the grid with column k at 0 in all rows but row k."""
-    head = grid[k]
-    cleared = []
-    for at, row in enumerate(grid):
-        if at == k:
-            cleared.append(row)
-        else:
-            cleared.append([(head[k] * b - row[k] * a) // divisor for a, b in zip(head, row)])
-    return cleared
 
 
 def is_resting(walk, thing):

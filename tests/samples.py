@@ -1,6 +1,7 @@
 """Turns, words and things that are none, which several files of tests ask about."""
 
-from itertools import product
+from fractions import Fraction
+from itertools import chain, product
 from random import Random
 
 from elderdraw.shares import Share
@@ -50,6 +51,22 @@ def map_by_places(turns, word):
     return tuple(led(turns, word, place) for place in range(turns.many))
 
 
+def found_by_words(turns, told):
+    """What is told of the maps of all words, in the order of the words that first have it, the shorter ones first."""
+    found = []
+    length = 0
+    while True:
+        new = []
+        for word in words_of(len(turns), length):
+            thing = told(map_by_places(turns, word))
+            if thing not in found and thing not in new:
+                new.append(thing)
+        if not new:
+            return found
+        found += new
+        length += 1
+
+
 def side_by_side(parts):
     """Turns of parts, lists of maps, that stand side by side: each sign moves its own part alone."""
     many = sum(len(part[0]) for part in parts)
@@ -80,3 +97,58 @@ def down(many):
 
 def up(many):
     return tuple(min(place + 1, many - 1) for place in range(many))
+
+
+def resets(many, places):
+    """Maps that lead all of so many places to one, for each of some places."""
+    return [(place,) * many for place in places]
+
+
+def rings(lengths):
+    """A map that leads round rings of such lengths, side by side."""
+    starts = [sum(lengths[:at]) for at in range(len(lengths))]
+    return tuple(start + step for start, length in zip(starts, lengths) for step in ring(length))
+
+
+# Rings of 5, 7 and 8 have 280 maps; a sign that leads all places to one of a ring brings as many more as the ring has
+# places. So these have just 300 maps and 301, and some words meet.
+THREE_HUNDRED = Turns(20, [rings((5, 7, 8)), *resets(20, (0, 5, 12))])
+ONE_MORE = Turns(21, [rings((5, 7, 8, 1)), *resets(21, (0, 5, 12, 20))])
+# Likewise, but none meets: rings alone, and a ring of 7 beside one that has 43 maps.
+NEVER_300 = Turns(32, [rings((3, 4, 25))])
+NEVER_301 = side_by_side([[(1, 0, 3, 4, 2, 6, 7, 8, 9, 10, 11, 5, 5)], [ring(7)]])
+
+
+def large_turns():
+    """Turns of 32 places, 200 signs and 300 maps, of which some words meet."""
+    round_about = rings((5, 7, 8)) + tuple(range(20, 32))
+    maps = []
+    leads = round_about
+    while len(maps) < 190:
+        maps.append(leads)
+        leads = tuple(round_about[place] for place in leads)
+    return Turns(32, maps + resets(32, (0, 5, 12)) + resets(32, (0, 0, 0, 1, 5, 12, 13)))
+
+
+def fractions(shares):
+    return [Fraction(share.top, share.bottom) for share in shares]
+
+
+def unit(many, at):
+    return [int(place == at) for place in range(many)]
+
+
+def meets(leads):
+    return len(set(leads)) == 1
+
+
+def turns_that_meet():
+    """Turns of few places and maps of which some words meet, by the words of 4.3."""
+    some = chain(all_turns(2, 2), some_turns(91, 40, 3, 2), some_turns(92, 20, 3, 4), some_turns(93, 20, 4, 2))
+    for turns in some:
+        if any(meets(map_by_places(turns, word)) for length in range(6) for word in words_of(len(turns), length)):
+            yield turns
+    yield Turns(1, [(0,), (0,)])
+    yield Turns(7, [down(7)])
+    yield Turns(5, [up(5), down(5)])
+    yield Turns(4, [ring(4), *resets(4, (1, 3))])

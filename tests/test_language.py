@@ -142,6 +142,9 @@ class Interface(unittest.TestCase):
         "words": ["map_of", "maps_of", "never_meet", "meeting"],
         "elder": ["Draw", "drawn", "drawn_doubled"],
         "orders": ["Order", "not_kept", "drawn_between"],
+        "counts": ["counts", "map_counts"],
+        "tables": ["draw_table", "draw_shares", "wait_table"],
+        "wrong": ["met_forward", "forward_table", "forward_shares", "tried_shares"],
     }
     METHODS = {
         "Share": ["__init__", "__eq__", "__str__"],

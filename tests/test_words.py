@@ -7,8 +7,8 @@ from random import Random
 from elderdraw.errors import NoSign, TooMany
 from elderdraw.turns import Turns
 from elderdraw.words import map_of, maps_of, meeting, never_meet
-from samples import (EXAMPLE, OTHER_KINDS, all_turns, down, knot, led, map_by_places, ring, side_by_side, some_turns,
-                     staying, up, with_sign, words_of)
+from samples import (EXAMPLE, OTHER_KINDS, all_turns, down, found_by_words, knot, led, map_by_places, ring, side_by_side,
+                     some_turns, staying, up, with_sign, words_of)
 
 NO_SIGNS = [*OTHER_KINDS, -1, -2, 10 ** 29, -10 ** 29, (), (0,), [], [0], knot(), EXAMPLE, 10 ** 60]
 
@@ -25,19 +25,7 @@ def small_turns():
 
 
 def maps_by_words(turns):
-    """The maps in the order of the words that first have them, the shorter ones first."""
-    found = []
-    length = 0
-    while True:
-        new = []
-        for word in words_of(len(turns), length):
-            leads = map_by_places(turns, word)
-            if leads not in found and leads not in new:
-                new.append(leads)
-        if not new:
-            return found
-        found += new
-        length += 1
+    return found_by_words(turns, lambda leads: leads)
 
 
 def sets_by_words(turns):
