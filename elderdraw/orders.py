@@ -1,7 +1,7 @@
 """Orders of places, which signs keep them, and draws that look at the two ends alone."""
 
 from elderdraw.errors import NoEnds, NoOrder, NotKept
-from elderdraw.kinds import is_whole_within
+from elderdraw.kinds import is_pair_of, is_whole_within
 from elderdraw.signs import check_signs
 
 _MOST_PLACES = 32
@@ -49,9 +49,7 @@ def _are_pairs(thing, many):
 
 def _is_pair(thing, many):
     """Tell of anything whether it is a tuple of two unlike ones of so many places."""
-    if not isinstance(thing, tuple) or len(thing) != 2:
-        return False
-    return all([is_whole_within(place, 0, many - 1) for place in thing]) and thing[0] != thing[1]
+    return is_pair_of(thing, many) and thing[0] != thing[1]
 
 
 def _below(many, pairs):

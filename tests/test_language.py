@@ -13,6 +13,9 @@ LIBRARY = {
 }
 BUILTINS = """len range enumerate zip min max sum abs sorted reversed int str bool bytes list tuple dict set frozenset isinstance
     ord repr any all divmod map iter next super ValueError KeyError IndexError LookupError TypeError""".split()
+METHODS = """append clear copy count endswith extend find get index insert isalnum isalpha isdigit islower isspace isupper
+    items join keys ljust lower lstrip partition pop remove replace reverse rfind rjust rpartition rsplit rstrip setdefault
+    split splitlines startswith strip update upper values zfill bit_length isascii add discard""".split()
 SPECIAL = {"__init__", "__eq__", "__repr__", "__str__", "__len__"}
 # A class with == stands in the package: any, all, sum and the like take lists, and nothing is sorted in place.
 UNWANTED = (ast.Global, ast.AsyncFunctionDef, ast.Await, ast.Div, ast.GeneratorExp, ast.Import)
@@ -32,6 +35,24 @@ def nodes(kind):
 def is_plain_is(node):
     return isinstance(node, ast.Compare) and all(
         isinstance(side, ast.Constant) for sign, side in zip(node.ops, node.comparators) if isinstance(sign, (ast.Is, ast.IsNot)))
+
+
+def tables(tree):
+    """The names of dicts of own functions that stand at module level."""
+    own = {one.name for one in tree.body if isinstance(one, ast.FunctionDef)}
+    for one in tree.body:
+        if isinstance(one, ast.Assign) and isinstance(one.value, ast.Dict):
+            if all(isinstance(value, ast.Name) and value.id in own for value in one.value.values):
+                yield one.targets[0].id
+
+
+def taken_out_of_a_table(tree):
+    """The names that are assigned an item of such a dict."""
+    known = set(tables(tree))
+    for node in ast.walk(tree):
+        if isinstance(node, ast.Assign) and isinstance(node.value, ast.Subscript):
+            if isinstance(node.value.value, ast.Name) and node.value.value.id in known:
+                yield from (target.id for target in node.targets)
 
 
 class Language(unittest.TestCase):
@@ -106,7 +127,7 @@ class Language(unittest.TestCase):
     def test_what_is_called_by_name_is_own_or_handed_in_or_an_allowed_builtin(self):
         for path in files():
             tree = ast.parse(path.read_text())
-            known = set(BUILTINS)
+            known = {*BUILTINS, *taken_out_of_a_table(tree)}
             for node in ast.walk(tree):
                 if isinstance(node, (ast.FunctionDef, ast.ClassDef)):
                     known.add(node.name)
@@ -117,6 +138,23 @@ class Language(unittest.TestCase):
             for node in ast.walk(tree):
                 if isinstance(node, ast.Call) and isinstance(node.func, ast.Name):
                     self.assertIn(node.func.id, known, path)
+
+    def test_methods_that_are_called_are_own_or_allowed(self):
+        own = {node.name for _, node in nodes(ast.FunctionDef)}
+        for name, node in nodes(ast.Call):
+            if isinstance(node.func, ast.Attribute):
+                self.assertTrue(node.func.attr in METHODS or node.func.attr in own, (name, node.func.attr))
+
+    def test_at_module_level_stand_plain_values_alone(self):
+        for path in files():
+            for node in ast.parse(path.read_text()).body:
+                if isinstance(node, ast.Assign):
+                    self.assertEqual(len(node.targets), 1, path)
+                    for part in ast.walk(node.value):
+                        self.assertNotIsInstance(part, (ast.Call, ast.Lambda, ast.Set, ast.ListComp, ast.DictComp), path)
+                else:
+                    kinds = (ast.Expr, ast.ImportFrom, ast.FunctionDef, ast.ClassDef)
+                    self.assertIsInstance(node, kinds, path)
 
     def test_no_parameter_or_variable_hides_an_import_a_class_or_a_builtin(self):
         for path in files():
@@ -145,6 +183,10 @@ class Interface(unittest.TestCase):
         "counts": ["counts", "map_counts"],
         "tables": ["draw_table", "draw_shares", "wait_table"],
         "wrong": ["met_forward", "forward_table", "forward_shares", "tried_shares"],
+        "once": ["blocks", "read_once", "once_shares"],
+        "webs": ["Web", "turns_of", "order_of"],
+        "texts": ["show", "read"],
+        "desk": ["Desk"],
     }
     METHODS = {
         "Share": ["__init__", "__eq__", "__str__"],
@@ -152,6 +194,8 @@ class Interface(unittest.TestCase):
         "Turns": ["__init__", "__eq__", "__len__"],
         "Draw": ["__init__", "elder", "place", "used", "looked", "__len__"],
         "Order": ["__init__", "at_most", "least", "greatest", "__len__"],
+        "Web": ["__init__"],
+        "Desk": ["__init__", "say"],
     }
 
     def test_what_is_listed_stands_in_its_file_and_its_class(self):
